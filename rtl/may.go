@@ -2,13 +2,11 @@ package rtl
 
 import (
 	"cotter/api"
+	"cotter/flow"
 	"cotter/world"
 )
 
-const (
-	threadRank = api.MaxRank + 1
-	mostTrap   = 127
-)
+const threadRank = api.MaxRank + 1
 
 // given is what modules give, under its name.
 type given map[string]api.Decl
@@ -45,104 +43,44 @@ type checker struct {
 }
 
 func (c *checker) mayBe() bool {
-	if !isBody(c.own) || c.Params != c.own.Count || c.Params > c.Temps || c.Temps > api.MaxTemps {
-		return false
-	}
-	if len(c.Code) < 1 || len(c.Code) > api.MaxOps || !endsAll(c.Code[len(c.Code)-1].Op) {
+	if !isBody(c.own) || c.Params != c.own.Count || !flow.MayBe(c.Func) {
 		return false
 	}
 	for _, o := range c.Code {
-		if !c.mayDo(o) {
+		if !c.mayName(o) {
 			return false
 		}
 	}
 	return true
 }
 
-// endsAll is of operations behind which the next one never comes.
-func endsAll(op int) bool {
-	switch op {
-	case api.OpJump, api.OpRet, api.OpEnd, api.OpTrap:
-		return true
-	}
-	return false
-}
-
-func (c *checker) mayDo(o api.Op) bool {
+// mayName is of what hangs on names alone.
+func (c *checker) mayName(o api.Op) bool {
 	switch o.Op {
-	case api.OpConst:
-		return c.areTemps(o.D)
-	case api.OpCopy:
-		return c.areTemps(o.D, o.A)
-	case api.OpBin:
-		return c.areTemps(o.D, o.A, o.B) && o.What >= api.ADD && o.What <= api.LE
-	case api.OpLoad:
-		return c.areTemps(o.D) && c.isElement(o)
-	case api.OpStore:
-		return c.areTemps(o.B) && c.isElement(o)
+	case api.OpLoad, api.OpStore:
+		return c.isElement(o)
 	case api.OpCall:
-		return c.mayAnswer(o.D) && c.mayCall(o)
-	case api.OpGet:
-		return c.mayAnswer(o.D) && c.isQueue(o.Name)
-	case api.OpPut:
-		return c.mayAnswer(o.D) && c.isQueue(o.Name) && c.areTemps(o.B)
+		return c.mayCall(o)
+	case api.OpGet, api.OpPut:
+		return c.isQueue(o.Name)
 	case api.OpAcq, api.OpRel:
 		return c.isLock(o.Name)
-	}
-	return c.mayTurn(o)
-}
-
-// mayTurn is of operations that name nothing.
-func (c *checker) mayTurn(o api.Op) bool {
-	switch o.Op {
-	case api.OpJump:
-		return c.isPlace(o.To)
-	case api.OpIf:
-		return c.areTemps(o.A) && c.isPlace(o.To)
-	case api.OpPrint:
-		return c.areTemps(o.A)
 	case api.OpRet:
-		return c.areTemps(o.A) && c.own.Kind == api.DeclFunc
+		return c.own.Kind == api.DeclFunc
 	case api.OpEnd:
 		return c.own.Kind == api.DeclThread
-	case api.OpTrap:
-		return o.N >= 1 && o.N <= mostTrap
-	}
-	return false
-}
-
-func (c *checker) areTemps(l ...int) bool {
-	for _, n := range l {
-		if n < 0 || n >= c.Temps {
-			return false
-		}
 	}
 	return true
-}
-
-// mayAnswer is of where an answer goes: -1 is nowhere.
-func (c *checker) mayAnswer(d int) bool {
-	return d == -1 || c.areTemps(d)
-}
-
-func (c *checker) isPlace(to int) bool {
-	return to >= 0 && to < len(c.Code)
 }
 
 func (c *checker) isElement(o api.Op) bool {
 	d := c.given[o.Name]
-	if d.Kind != api.DeclInt {
-		return false
-	}
-	if d.N == 0 {
-		return o.A == -1
-	}
-	return c.areTemps(o.A)
+	return d.Kind == api.DeclInt && (d.N == 0) == (o.A == -1)
 }
 
 func (c *checker) mayCall(o api.Op) bool {
 	d := c.given[o.Name]
-	return d.Kind == api.DeclFunc && d.Rank < rankOf(c.own) && len(o.Args) == d.Count && c.areTemps(o.Args...)
+	return d.Kind == api.DeclFunc && d.Rank < rankOf(c.own) && len(o.Args) == d.Count
 }
 
 func rankOf(d api.Decl) int {

@@ -2,6 +2,7 @@ package src
 
 import (
 	"cotter/api"
+	"cotter/sign"
 	"cotter/word"
 )
 
@@ -22,30 +23,6 @@ func faultOf(do func()) (n int64) {
 	}()
 	do()
 	return 0
-}
-
-// operators are the binary ones that always need both sides, as instructions. Turned ones have none of their own: they change the sides' places.
-var operators = [...]struct {
-	sign   string
-	op     int
-	turned bool
-}{
-	{"+", api.ADD, false},
-	{"-", api.SUB, false},
-	{"*", api.MUL, false},
-	{"/", api.DIV, false},
-	{"%", api.REM, false},
-	{"&", api.AND, false},
-	{"|", api.OR, false},
-	{"^", api.XOR, false},
-	{"<<", api.SHL, false},
-	{">>", api.SAR, false},
-	{"==", api.EQ, false},
-	{"!=", api.NE, false},
-	{"<", api.LT, false},
-	{"<=", api.LE, false},
-	{">", api.LT, true},
-	{">=", api.LE, true},
 }
 
 // work works an expression out in a frame.
@@ -99,20 +76,8 @@ func (m *Machine) two(f *frame, e api.Exp) int64 {
 	if e.Op == "&&" || e.Op == "||" {
 		return truth(r != 0)
 	}
-	return operator(e.Op, l, r)
-}
-
-func operator(sign string, l int64, r int64) int64 {
-	for _, o := range operators {
-		switch {
-		case o.sign != sign:
-		case o.turned:
-			return binary(o.op, r, l)
-		default:
-			return binary(o.op, l, r)
-		}
-	}
-	return 0
+	what, a, b := sign.Of(e.Op, l, r)
+	return binary(what, a, b)
 }
 
 func binary(op int, a int64, b int64) int64 {
