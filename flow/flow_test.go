@@ -176,6 +176,17 @@ func TestSet(t *testing.T) {
 			t.Errorf("%d: %v", n, s.Has(n))
 		}
 	}
+	if l := slices.Collect(s.All()); !slices.Equal(l, []int{0, 5, 64, 399}) {
+		t.Errorf("All: %v", l)
+	}
+	for n := range s.All() { // one may stop anywhere
+		if n == 5 {
+			break
+		}
+		if n > 5 {
+			t.Errorf("All, left: %d", n)
+		}
+	}
 }
 
 // modelLive follows all ways from a place on.

@@ -1,6 +1,11 @@
 package flow
 
-import "cotter/api"
+import (
+	"iter"
+	"math/bits"
+
+	"cotter/api"
+)
 
 const wordBits = 64
 
@@ -17,6 +22,19 @@ func (s *Set) Remove(t int) {
 
 func (s *Set) Has(t int) bool {
 	return s[t/wordBits]>>(t%wordBits)&1 == 1
+}
+
+// All goes along the temps, rising.
+func (s Set) All() iter.Seq[int] {
+	return func(yield func(int) bool) {
+		for i, rest := range s {
+			for ; rest != 0; rest &= rest - 1 { // without its lowest bit
+				if !yield(i*wordBits + bits.TrailingZeros64(rest)) {
+					return
+				}
+			}
+		}
+	}
 }
 
 // Join adds all of another one.
