@@ -55,7 +55,7 @@ func Lives(code []api.Op, counts func(o api.Op, behind Set) bool) []Set {
 	for len(work) > 0 {
 		at := work[len(work)-1]
 		work, waits[at] = work[:len(work)-1], false
-		now := liveAhead(code[at], Behind(code, ahead, at), counts)
+		now := Ahead(code[at], Behind(code, ahead, at), counts)
 		if now == ahead[at] {
 			continue
 		}
@@ -78,7 +78,8 @@ func Behind(code []api.Op, ahead []Set, at int) Set {
 	return behind
 }
 
-func liveAhead(o api.Op, behind Set, counts func(o api.Op, behind Set) bool) Set {
+// Ahead are the temps that are live ahead of an operation behind which those are, by what counts as in Lives.
+func Ahead(o api.Op, behind Set, counts func(o api.Op, behind Set) bool) Set {
 	needed := counts(o, behind)
 	if d := Writes(o); d != -1 {
 		behind.Remove(d)

@@ -70,7 +70,21 @@ func TestStays(t *testing.T) {
 	wantCode(t, "round over jumps", []api.Op{jump(2), end, jump(3), jump(2)}, jump(0))
 	wantCode(t, "round over what goes", []api.Op{constant(2, 1), copied(3, 2), jump(0)}, jump(0))
 	wantCode(t, "round over tests", []api.Op{unless(0, 2), back(1), unless(0, 0), back(0)}, unless(0, 0), back(1))
+	wantCode(t, "round by two ways", []api.Op{show(0), show(1), unless(0, 4), jump(1), jump(0)}, show(0), show(1), unless(0, 0), jump(1))
 	wantCode(t, "round by a known test", []api.Op{constant(2, 0), unless(2, 0), show(1), end}, jump(0))
+}
+
+// Tests of tests that nobody needs go, however many there are.
+func TestLongWays(t *testing.T) {
+	var code []api.Op
+	for range 2500 {
+		at := len(code)
+		code = append(code, load(1, "x", -1), unless(0, at+5), unless(1, at+5), constant(0, 1), jump(at+6), constant(0, 0))
+	}
+	wantCode(t, "nobody reads it", append(slices.Clone(code), end), end)
+	if g := made(t, api.Func{Name: "f", Params: 1, Temps: 2, Code: append(slices.Clone(code), show(0), end)}); len(g.Code) < 2500 {
+		t.Errorf("%d operations are left of what is read", len(g.Code))
+	}
 }
 
 // run is what is seen of a thread that calls f with two numbers, and prints what that answers.

@@ -30,22 +30,38 @@ func isPure(o api.Op) bool {
 	return false
 }
 
+// drop goes from the end to the beginning, so that what nothing reads but what was taken out goes at once, and so does what leads, over such alone, to what comes behind it anyway. Ahead is brought up to it; where an operation leads back, it is taken as it was: never too little.
 func (p *plan) drop(ahead []flow.Set) {
-	for at, o := range p.Code {
-		d := flow.Writes(o)
-		if d == -1 {
-			continue
-		}
+	goals := make([]int, len(p.Code))
+	for at := len(p.Code) - 1; at >= 0; at-- {
 		behind := flow.Behind(p.Code, ahead, at)
-		switch {
-		case behind.Has(d):
-		case isPure(o):
-			p.remove(at)
-		case isAsked(o):
-			o.D = -1
-			p.set(at, o)
-		}
+		p.dropOne(at, behind, goals)
+		goals[at] = p.goal(at, goals)
+		ahead[at] = flow.Ahead(p.Code[at], behind, isNeeded)
 	}
+}
+
+func (p *plan) dropOne(at int, behind flow.Set, goals []int) {
+	o := p.Code[at]
+	d := flow.Writes(o)
+	switch {
+	case flow.Leads(o) && o.To > at && goals[o.To] == goals[at+1]:
+		p.remove(at)
+	case d == -1 || behind.Has(d):
+	case isPure(o):
+		p.remove(at)
+	case isAsked(o):
+		o.D = -1
+		p.set(at, o)
+	}
+}
+
+// goal is the first place from one on that does more than to lead on, as far as those behind it are known.
+func (p *plan) goal(at int, goals []int) int {
+	if next := p.passed(at); p.isPassed(at) && next > at {
+		return goals[next]
+	}
+	return at
 }
 
 // isAsked is of what may answer nowhere.
