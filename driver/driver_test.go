@@ -128,7 +128,7 @@ func TestCompile(t *testing.T) {
 	}
 }
 
-// wrong are sources with their error as modules, and the document's reason.
+// wrong are sources that no module that holds is made of, and their errors.
 var wrong = []struct {
 	s string
 	e api.Errno
@@ -139,7 +139,7 @@ var wrong = []struct {
 	{"thread t { print 1 }", api.ErrSyntax},
 	{"thread t { \xff }", api.ErrSyntax},
 	{"thread t { x = 1; }", api.ErrType},
-	{"thread t { x = 1; } lock l; lock l;", api.ErrDuplicate},
+	{"thread t { x = 1; } lock l; lock l;", api.ErrDuplicate}, // asked ahead of types
 	{"lock l; int x by l; thread t { x = 1; }", api.ErrType},
 	{"lock l; int x by l; int f() with l rank 0 { x = 1; } thread t { f(); }", api.ErrType},
 	{"queue q 9; thread t { }", api.ErrType},

@@ -101,8 +101,7 @@ func (w *author) answer() string {
 
 func (w *author) fresh() string {
 	w.made++
-	name := "v" + strconv.Itoa(w.made)
-	return name
+	return "v" + strconv.Itoa(w.made)
 }
 
 func (w *author) stmt() {

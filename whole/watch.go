@@ -29,7 +29,7 @@ type call struct {
 	back spot
 }
 
-// watcher is a machine, and what its threads have shown. An act's Call and Back lie within the pick by which it began and came back: the pick's number twice, and 1 more.
+// watcher is a machine, and what its threads have shown. A pick has two times, twice its number and 1 more: an act's Call is the first one of the pick by which it began, its Back the second one of that by which it came back.
 type watcher struct {
 	*tso.Machine
 	code  string
@@ -94,8 +94,8 @@ func (w *watcher) pick(pick int, now int) {
 	case i.Op == api.OUT || is.State != api.Running:
 		w.show(t, now)
 	case i.Op == api.CALL && calls:
-		w.open[t] = call{len(w.acts), spot{api.CodeBase + int64(behind), was.R[api.Stack]}}
-		w.begin(t, to, was, now)
+		w.open[t] = call{act: len(w.acts), back: spot{api.CodeBase + int64(behind), was.R[api.Stack]}}
+		w.begin(t, to, was.R[1], now)
 	default:
 		w.comeBack(t, is, now)
 	}
@@ -115,10 +115,10 @@ func (w *watcher) show(t int, now int) {
 	w.acts = append(w.acts, api.Act{Thread: t, Do: api.DoPrint, Arg: events[len(events)-1].N, Call: 2 * now, Back: 2*now + 1})
 }
 
-func (w *watcher) begin(t int, to door, c api.CPU, now int) {
+func (w *watcher) begin(t int, to door, arg int64, now int) {
 	act := api.Act{Thread: t, Do: to.do, Name: to.name, Call: 2 * now, Back: -1}
-	if to.do == api.DoPut {
-		act.Arg = c.R[1]
+	if to.do == api.DoPut { // the others have none
+		act.Arg = arg
 	}
 	w.acts = append(w.acts, act)
 }
